@@ -96,6 +96,14 @@ func TestPrograms(t *testing.T) {
 		[2]string{"heap 2 9 1", "ok"}, [2]string{"lives", "lives"}, [2]string{"new 0 0 2", "1"}, [2]string{"drop 0", "0"}, [2]string{"drain 1", "1"}, [2]string{"lives", "lives"})
 }
 
+// P23.2: a program that is set leaves the others as they are, and those that are not there are empty.
+func TestProgramsStandBesideEachOther(t *testing.T) {
+	replies(t, [2]string{"prog 0 2 0 5 0", "ok"}, [2]string{"prog 3 2 1 5 0", "ok"}, [2]string{"prog 1 2 2 5 0 3 5 0 0", "ok"}, [2]string{"heap 3 9 1", "ok"},
+		[2]string{"new 5 0 0", "1"}, [2]string{"new 5 0 1", "2"}, [2]string{"new 5 0 3", "3"}, [2]string{"drop 5", "0"},
+		[2]string{"drain 7", "3"}, [2]string{"roots", "roots 1 3 2 0 0 0"}, [2]string{"new 5 0 2", "error 4"},
+		[2]string{"drop 0", "0"}, [2]string{"new 5 0 2", "4"}, [2]string{"drop 5", "0"}, [2]string{"drain 1", "1"}, [2]string{"lives", "lives 2 3"})
+}
+
 // P23.2: with an error nothing changes.
 func TestProgramsThatMayNotBe(t *testing.T) {
 	six, seven := strings.Repeat(" 3 0 0 0", 6), strings.Repeat(" 3 0 0 0", 7)

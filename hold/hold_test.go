@@ -83,6 +83,35 @@ func TestRightHeaps(t *testing.T) {
 	}
 }
 
+// P15.1: a task of each object and of each cell is as many as there may be.
+func TestAQueueThatIsFull(t *testing.T) {
+	x := New(24, 9, 8)
+	for h := 1; h <= 24; h++ {
+		x.S, _, _ = store.Make(x.S, 0, 0)
+		x.S, _ = store.Set(x.S, h, store.Obj{Serial: h, Strong: 1, Started: true})
+		x.Q, _ = task.Add(x.Q, task.Task{Kind: task.Final, At: h})
+	}
+	for w := range 6 {
+		x.Q, _ = task.Add(x.Q, task.Task{Kind: task.Call, At: w})
+	}
+	if len(x.Q.L) != 30 || !Right(x) {
+		t.Error(x)
+	}
+}
+
+// P15.1: what stands behind a free slot is asked, too.
+func TestSpoiltBehindAFreeSlot(t *testing.T) {
+	x := made(t, 2)
+	x = must(t)(Root(x, 0, 2))
+	x.S.S, _ = slab.Give(x.S.S, 1)
+	if !Right(x) {
+		t.Fatal(x)
+	}
+	if x.S.S.Cells[1].Val.Weak = 1; Right(x) {
+		t.Error(x)
+	}
+}
+
 // P15.1
 func TestSpoiltHeaps(t *testing.T) {
 	for i, spoil := range []func(x *Heap){

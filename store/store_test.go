@@ -163,6 +163,7 @@ func TestRight(t *testing.T) {
 		func(s *Store) { s.S.Cells[1].Gen = -1 },
 		func(s *Store) { s.S.Cells[2].Gen = 4 },
 		func(s *Store) { s.S.Cells[0].Val.Serial = 1 },
+		func(s *Store) { s.S.Cells[0], s.S.Cells[3] = s.S.Cells[3], s.S.Cells[0]; s.S.Cells[1].Val.Serial = 5 },
 		func(s *Store) { s.S.Cells[0].Val.Serial = 6 },
 		func(s *Store) { s.S.Cells[1].Val.Serial = 0 },
 		func(s *Store) { s.S.Cells[0].Val.Strong = -1 },
